@@ -48,6 +48,10 @@ func Signed(n int) int {
 	return widen[int32](n)
 }
 
+func isWord(n int) bool {
+	return n == Word(n)
+}
+
 // Alu does an operation.
 func Alu(op int, a int, b int) (int, bool) {
 	if op < AluAdd || op > AluRemu {
