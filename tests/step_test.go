@@ -264,6 +264,34 @@ func TestPcThatIsNone(t *testing.T) {
 	}
 }
 
+// An instruction that Pc does not name whole does nothing, whatever it is.
+func TestEachOpBesidePc(t *testing.T) {
+	for op := 1; op <= impl.OpEbreak; op++ {
+		m := between(wellFormed(op)[0], dataAt, 3)
+		m.Pc += 2
+		stepFrom(t, impl.OpName(op)+" with Pc within it", m, faults(impl.FaultPc))
+		m.Code, m.Pc = m.Code[:2], codeAt+8
+		stepFrom(t, impl.OpName(op)+" in front of Pc", m, faults(impl.FaultPc))
+	}
+}
+
+// A jump out of Code is done, and the fault is that of the step behind it.
+func TestJumpsOutOfCode(t *testing.T) {
+	for _, in := range []impl.Inst{
+		{Op: impl.OpJal, Rd: 5, Imm: 8}, {Op: impl.OpJal, Imm: -8}, {Op: impl.OpJal, Imm: 2}, {Op: impl.OpJal, Imm: -1048576},
+		{Op: impl.OpJalr, Rd: 5, Rs1: 6}, {Op: impl.OpJalr, Rs1: 7, Imm: 2},
+		{Op: impl.OpBeq, Imm: 8}, {Op: impl.OpBne, Rs1: 6, Rs2: 7, Imm: -8}, {Op: impl.OpBlt, Rs1: 7, Rs2: 6, Imm: 2},
+		{Op: impl.OpBge, Rs1: 6, Rs2: 7, Imm: 4094}, {Op: impl.OpBltu, Rs1: 7, Rs2: 6, Imm: -4096}, {Op: impl.OpBgeu, Imm: -2},
+	} {
+		m := between(in, dataAt, codeAt)
+		got := untouched(t, "a jump", m, impl.StepMachine)
+		if got.End != impl.EndNone || got.Steps != 1 {
+			t.Errorf("%s: %v", impl.OpName(in.Op), got)
+		}
+		stepFrom(t, impl.OpName(in.Op)+" out of Code", got, faults(impl.FaultPc))
+	}
+}
+
 func TestWordThatIsNoInstruction(t *testing.T) {
 	for _, w := range []int{0, 1, 4294967295, 115 + 2<<20, 115 + 1<<7, 51 + 2<<25, 19 + 1<<12 + 1<<25} {
 		m := between(impl.Inst{Op: impl.OpAddi, Rd: 5}, 1, 2)
