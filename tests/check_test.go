@@ -13,7 +13,8 @@ const (
 	emptyMainCore = "(function main w 0 (block (return (num 0))))\n"
 )
 
-// check asks Check, with room behind the bytes, and sees that these are as they were and the core stands just beside 0.
+// check asks Check, with room behind the bytes, and sees that these are as they were, that the core stands just beside
+// 0, and that the second reading says the same.
 func check(t *testing.T, text string) (string, int, int, int) {
 	t.Helper()
 	given := roomy([]byte(text))
@@ -23,6 +24,11 @@ func check(t *testing.T, text string) (string, int, int, int) {
 	}
 	if (code == 0) != (len(core) > 0) {
 		t.Errorf("%.300q: code %d beside a core of %d bytes", text, code, len(core))
+	}
+	by, codeBy, lineBy, colBy := checkBy(text)
+	if string(core) != by || code != codeBy || line != lineBy || col != colBy {
+		shown := text[max(0, len(text)-600):]
+		t.Errorf("..%q: %d, %d, %d,\n%s, by the second reading %d, %d, %d,\n%s", shown, code, line, col, core, codeBy, lineBy, colBy, by)
 	}
 	return string(core), code, line, col
 }
