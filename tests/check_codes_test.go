@@ -87,6 +87,7 @@ func TestStatementsOfWrongKinds(t *testing.T) {
 
 // In every place where a kid may stand, a value of type void, struct or union.
 func TestValuesThatAreNotScalar(t *testing.T) {
+	t.Parallel()
 	for _, c := range []struct {
 		code int
 		text string
@@ -110,4 +111,41 @@ func TestValuesThatAreNotScalar(t *testing.T) {
 		}
 	}
 	topsSay(t, 24, "void v(void){}enum E{@A=v()};", "struct S{int a;};struct S s;enum E{A,@B=s};", "void v(void){}int a@[v()];", "void v(void){}int a=v@();", "void v(void){}int*a=v@();", "struct S{int a;};struct S s;int a=@s;", "struct S{int a;};struct S s;int*a=@s;", "struct S{int a;};struct S s;int a[]={1,@s};", "void v(void){}int a[]={v@()};", "struct S{int a;};struct S s;struct T{char*c;};struct T t={@s};", "struct S{int a;};struct S s;struct T{int a@[s];};", "void v(void){}int f(int x[2]@[v()]);")
+}
+
+// What type an expr has, by what it can be used for.
+func TestTypesOfExprs(t *testing.T) {
+	isPointer := func(to string, exprs ...string) {
+		t.Helper()
+		for _, expr := range exprs {
+			other := "int"
+			if to == "int" {
+				other = "char"
+			}
+			bodiesSay(t, 0, "{"+to+"*z=("+expr+");}", "{int z=("+expr+")==("+to+"*)w;}")
+			bodiesSay(t, 24, "{"+other+"*z;z@=("+expr+");}", "{int z;z@=("+expr+");}")
+		}
+	}
+	isPointer("int", "p", "a", "&i", "p+1", "1+p", "p-1", "p++", "--p", "p+=1", "p=0", "p=w", "i?p:0", "i?0:p", "i?p:w", "i?w:p", "i?a:p", "i,p", "(int*)cp", "(int*)w", "*pp", "pp[0]", "&*p", "*ap", "ap[1]", "&a[2]", "&s.a", "&sp->a", "gp", "ga", "(int*)0")
+	isPointer("char", "cp", "\"x\"", "&c", "&s.b", "i?\"x\":0", "i?w:cp", "(char*)p", "cp++", "&*cp", "\"x\"+1", "i?\"x\":cp")
+	isPointer("struct S", "sp", "&s", "gt", "sp->n", "s.n", "&gt[1]", "i?sp:0", "i?w:sp", "(struct S*)w", "sp++", "gt+1", "1+gt", "&*sp")
+	isPointer("struct Q", "q", "i?q:0", "i?q:w", "i?w:q", "(struct Q*)p", "q=q2")
+	bodiesSay(t, 24, "@*w;", "@*(i?w:w2);", "@*(i?w:0);", "@*(i?0:w);", "@*(void*)p;", "@*(w=p);", "@*(i?q:w);", "@*(i,w);")
+	bodiesSay(t, 0, "*(i?w:p);*(i?p:w);*(i?p:0);*(p=w);*(i,p);(i?sp:w)->a;(i?w:sp)->a;(i?0:sp)->a;(i?w:gt)[1].a;(i?f:0)(1);(i?0:f)(1);")
+	// Arithmetic: whether without a sign shows in a division, how great in sizeof, whether narrow in what is given.
+	for _, c := range []struct{ exprs, div, size string }{
+		{"i|c+1|+c|-uc|~us|!u|u<1|u==1|u&&1|p==0|p-p|i+c|c*c|sh<<u|us>>1|i?c:sh|K|'a'|f(1)|i=u|i+=u|i++|(int)u|i&c|c^c|uc/uc|1|i,c+0|sh%us", "/", "4"},
+		{"u|u+1|i+u|+u|-u|~u|u<<1|u>>c|i*u|c-u|i?u:1|i?1:u|1u|4294967295|sizeof i|sizeof(char)|(unsigned)c|u=1|u+=c|u--|u&1|1^u|i,u|u%c|i/1u", "u/", "4"},
+		{"c|c=1|c++|--c|c+=u|(char)i|h()|*cp|s.b|cp[1]|*\"x\"|i,c", "/", "1"},
+		{"sh|sh=1|sh--|sh*=2|(short)u|i,sh", "/", "2"},
+		{"us|us=1|us--|us^=u|(unsigned short)i", "/", "2"},
+		{"uc|uc=1|++uc|uc>>=1|(unsigned char)c", "/", "1"},
+	} {
+		for _, expr := range strings.Split(c.exprs, "|") {
+			core, code, line, col := check(t, aBody+aMain+"("+expr+")/-1;sizeof("+expr+");}")
+			if code != 0 || !strings.Contains(core, "(do (bin "+c.div+" ") || !strings.HasSuffix(core, "(do (num "+c.size+"))))\n") {
+				t.Errorf("%q: %d %d %d %s", expr, code, line, col, core[max(0, len(core)-200):])
+			}
+		}
+	}
 }

@@ -447,6 +447,7 @@ func madeProgram(r *rand.Rand, slips int) string {
 }
 
 func TestMadeUpPrograms(t *testing.T) {
+	t.Parallel()
 	right := 0
 	for seed := range 1200 {
 		r := rand.New(rand.NewSource(int64(seed)))

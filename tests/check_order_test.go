@@ -14,6 +14,7 @@ type wrongCase struct {
 
 // Of two errors in one source the one that is come to first is told, in either order.
 func TestFirstOfTwoTops(t *testing.T) {
+	t.Parallel()
 	wrong := []wrongCase{
 		{20, "int w1=@nil;"}, {20, "int w2(void){return @nil;}"}, {20, "enum W3{W3=@nil};"}, {20, "int w4[@nil];"},
 		{21, "int @o;"}, {21, "@struct O{int a;};"}, {21, "enum W5{@o};"}, {21, "typedef int @ot;"}, {21, "int @o(void){return 1;}"}, {21, "int w6(int a,int @a){return 1;}"}, {21, "struct W7{int a;int @a;};"}, {21, "int w8(void){int a;{int a;}int @a;}"},
@@ -40,6 +41,7 @@ func TestFirstOfTwoTops(t *testing.T) {
 }
 
 func TestFirstOfTwoStmts(t *testing.T) {
+	t.Parallel()
 	wrong := []wrongCase{
 		{20, "@nil;"}, {20, "int w1=@nil;"}, {21, "int @i;"}, {21, "{int a,@a;}"}, {22, "void @w2;"}, {22, "@union S*w3;"}, {22, "int @w4(void);"}, {22, "@sizeof f;"}, {23, "1@=2;"}, {23, "@&3;"}, {23, "i++@++;"},
 		{24, "p@*2;"}, {24, "@if(s);"}, {24, "@switch(p);"}, {24, "s@=1;"}, {24, "int w5=@p;"}, {24, "@putchar;"}, {24, "@return p;"}, {24, "@for(;s;);"}, {25, "s@.z;"}, {26, "f@();"}, {26, "i@();"}, {27, "int w6[@i];"}, {27, "switch(i)case @i:;"}, {27, "sizeof(int[@0]);"}, {28, "int w7=@{1};"}, {28, "char w8[1]=@\"ab\";"},

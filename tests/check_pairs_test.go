@@ -52,6 +52,7 @@ func TestEachPairOfTypes(t *testing.T) {
 }
 
 func TestEachOperandOfOne(t *testing.T) {
+	t.Parallel()
 	for i, x := range strings.Fields(namedKinds + " sh uc fp2 " + valueKinds + " '\\0' +i (char)i &i &s s.a sp->n *p a[1] *sp *fp v") {
 		for j, form := range []string{
 			"+#", "-#", "~#", "!#", "*#", "&#", "#++", "#--", "++#", "--#", "sizeof #", "#.a", "#.b", "#.z", "#->a", "#->n", "#->z", "#()", "#(1,2)", "f(#)", "putchar(#)", "fp(#)",

@@ -118,6 +118,7 @@ func (s *spoiler) change(g *grown) {
 
 // Promise 9, for sources that are right and for spoilt ones.
 func TestBlanksCommentsAndBrackets(t *testing.T) {
+	t.Parallel()
 	counts := map[int]int{}
 	for seed := range 1600 {
 		r := rand.New(rand.NewSource(int64(seed)))
@@ -190,6 +191,7 @@ func placed(t *testing.T, text string) {
 }
 
 func TestAnySource(t *testing.T) {
+	t.Parallel()
 	for seed := range 400 {
 		r := rand.New(rand.NewSource(int64(seed)))
 		text := madeProgram(r, 200)
