@@ -17,7 +17,6 @@ type runMaker struct {
 	loops  int
 	funs   []madeFun
 	gives  string
-	tail   []string // what stands behind the function's steps
 }
 
 type madeFun struct {

@@ -103,13 +103,13 @@ func counts(t *testing.T, steps int, text string) {
 
 // Each kind of value: beside the block of main, a do, and each value in the expr.
 func TestStepsOfValues(t *testing.T) {
-	tops := "int x,y,a[4],*p=a;char c;struct S{int m,n;};struct S s,u;struct B{char b;};struct B b1,b2;struct F{char b[5];};struct F f1,f2;struct E{char b[8];};struct E e1,e2;int f(int i){return i;}void v(void){}int g(void){return 3;}int(*h)(int)=f;"
+	tops := "int x,y,a[4],*p=a;char c;struct S{int m,n;};struct S s,u;struct B{char b;};struct B b1,b2;struct F{char b[5];};struct F f1,f2;struct E{char b[8];};struct E e1,e2;struct Q{short q[2];};struct Q q1,q2;int f(int i){return i;}void v(void){}int g(void){return 3;}int(*h)(int)=f;"
 	for expr, steps := range map[string]int{
 		"1": 1, "'a'": 1, "\"s\"": 1, "x": 2, "a": 1, "f": 1, "p": 2, "*p": 3, "p[2]": 5, "a[1]": 4, "&a[1]": 3, "s": 1, "s.m": 2, "s.n": 4, "&s.n": 3, "(&s)->n": 4,
 		"x=1": 3, "p=0": 3, "p=a": 3, "x=y": 4, "x=y=1": 5, "c=1": 4, "c=c": 4, "x+1": 4, "-x": 4, "~x": 4, "!x": 4, "+x": 2, "!p": 4, "(char)x": 3, "(int)x": 2, "(void)1": 3, "x<y": 5, "p+1": 4, "1+p": 4, "(p+1)-1": 6, "p-a": 4, "p==a": 4, "p==0": 4, "sizeof x": 1,
 		"x++": 3, "--x": 3, "x+=2": 3, "x+=y": 4, "p++": 3, "p+=1": 3, "c++": 3, "a[1]++": 5, "1,2": 3, "1,2,3": 5, "x?1:2": 4, "1?2:3": 3, "0?2:3": 3, "1&&2": 3, "0&&2": 2, "1||2": 2, "0||2": 3, "p&&1": 6, "0||0||3": 5,
 		"f(1)": 2 + 1 + 4, "g()": 1 + 3, "v()": 1 + 1, "h(1)": 4 + 1 + 4, "(&f)(1)": 3 + 1 + 4, "f(f(1))": 1 + 2 + 5 + 5, "f(g())": 1 + 1 + 3 + 5,
-		"s=u": 3 + 2, "b1=b2": 3 + 1, "f1=f2": 3 + 2, "e1=e2": 3 + 2, "putchar(65)": 2, "getchar()": 1, "putchar(getchar())": 2,
+		"s=u": 3 + 2, "b1=b2": 3 + 1, "f1=f2": 3 + 2, "e1=e2": 3 + 2, "q1=q2": 3 + 1, "(q1=q2,1)+(q2=q1,2)": 1 + (1 + 4 + 1) + (1 + 4 + 1), "putchar(65)": 2, "getchar()": 1, "putchar(getchar())": 2,
 	} {
 		counts(t, 4+steps, tops+"@"+expr+";return 0;")
 		// As a whole main's result, an init and a test, when it has a value.
@@ -128,7 +128,7 @@ func TestStepsOfSteps(t *testing.T) {
 		"switch(1){}": 3, "switch(1);": 3, "switch(1){2;}": 3, "switch(1){case 1:;}": 6, "switch(1)case 1:;": 5, "switch(1)default:;": 5, "switch(1){case 2:;}": 3, "switch(1){2;{3;case 1:4;}5;}": 3 + 3 + 2 + 2, "switch(1){case 1:case 2:;}": 7, "switch(2){case 1:case 2:;}": 7, "switch(2){case 1:break;case 2:break;}": 6, "switch(2){case 1:;default:;}": 6, "switch(1){case 1:;default:;}": 8, "switch(1)while(0)case 1:;": 3 + 2 + 1 + 1, "switch(1)for(9;0;9)case 1:;": 3 + 2 + 1 + 2 + 1, "switch(1)do case 1:;while(0);": 3 + 2 + 1 + 1, "switch(1)if(9)case 1:;": 3 + 2 + 1, "switch(1)if(9);else case 1:;": 3 + 2 + 1, "switch(1)switch(9)case 9:;": 3, "switch(1){switch(2){default:;}case 1:;}": 6, "switch(1)lab:case 1:;": 3 + 2 + 1,
 		"l:;": 3, "l:m:;": 4, "goto l;l:;": 2 + 2 + 1, "goto l;1;l:;": 2 + 2 + 1, "goto m;l:m:;": 2 + 3 + 1, "goto l;{l:;}": 2 + 3 + 1, "goto l;{{l:;}}": 2 + 4 + 1, "goto l;{1;{2;l:3;}4;}5;": 2 + 4 + 2 + 2 + 2, "goto l;if(9)l:;": 2 + 3 + 1, "goto l;if(9);else l:;": 2 + 3 + 1, "goto l;while(0)l:;": 2 + 3 + 1 + 1, "goto l;do l:;while(0);": 2 + 3 + 1 + 1, "goto l;for(9;0;9)l:;": 2 + 3 + 1 + 2 + 1, "goto l;switch(9)l:;": 2 + 3 + 1, "goto l;switch(9)case 9:l:;": 2 + 4 + 1, "goto l;while(0){l:break;}": 2 + 4 + 1, "{{{goto l;}}}l:;": 4 + 1 + 2 + 1, "while(1){goto l;}l:;": 3 + 1 + 1 + 2 + 1, "{goto l;l:;}": 3 + 3 + 1,
 		// Locals: the call counts them, and their fresh counts 1 and as much again; zero too.
-		"int i;": 1 + 1 + 1 + 2, "char c;": 1 + 1 + 1 + 2, "char c[4];": 5, "char c[5];": 2 + 1 + 1 + 3, "char c[8];": 2 + 1 + 1 + 3, "char c[9];": 3 + 2 + 4, "short s[3];": 2 + 2 + 3, "int a[5];": 5 + 2 + 6, "int i,j;": 2 + 1 + 2*3, "{int i;}{int j;}": 2 + 1 + 2*4, "if(0){int i;}": 1 + 1 + 2, "int i=7;": 1 + 2 + 2 + 4, "char c[1]={0};": 1 + 2 + 2 + (1 + 1 + 1) + 5, "int a[2]={0};": 2 + 2 + 3 + (1 + 1 + 2) + 4, "char c[5]={0};": 2 + 2 + 3 + (1 + 1 + 2) + 5, "int i;goto l;{int j;l:;}": 2 + 1 + 3 + 1 + 3 + 1,
+		"int i;": 1 + 1 + 1 + 2, "char c;": 1 + 1 + 1 + 2, "char c[4];": 5, "char c[5];": 2 + 1 + 1 + 3, "char c[8];": 2 + 1 + 1 + 3, "char c[9];": 3 + 2 + 4, "short s[3];": 2 + 2 + 3, "int a[5];": 5 + 2 + 6, "int i,j;": 2 + 1 + 2*3, "{int i;}{int j;}": 2 + 1 + 2*4, "if(0){int i;}": 1 + 1 + 2, "int i=7;": 1 + 2 + 2 + 4, "char c[1]={0};": 1 + 2 + 2 + (1 + 1 + 1) + 5, "int a[1]={0};": 1 + 2 + 2 + (1 + 1 + 1) + 4, "int a[2]={0};": 2 + 2 + 3 + (1 + 1 + 2) + 4, "char c[5]={0};": 2 + 2 + 3 + (1 + 1 + 2) + 5, "int i;goto l;{int j;l:;}": 2 + 1 + 3 + 1 + 3 + 1,
 	} {
 		counts(t, steps, text)
 	}
