@@ -52,7 +52,7 @@ func isOutcome(o impl.Outcome, fuel int) bool {
 	return ends && value && o.Steps >= 0 && o.Steps <= fuel && o.Depth >= 0 && o.Depth <= impl.MaxCalls && len(o.Out) <= impl.MaxOut
 }
 
-// mean asks for what a right source means, and sees that the second reading says the same.
+// mean asks for what a right source means, and sees that the second reading says the same, and that its code runs so.
 func mean(t *testing.T, text, in string, fuel int) impl.Outcome {
 	t.Helper()
 	o, code, line, col := meaning(t, text, in, fuel)
@@ -64,6 +64,7 @@ func mean(t *testing.T, text, in string, fuel int) impl.Outcome {
 	if by := readBy(string(core)).run(in, fuel); !sameOutcome(o, by) {
 		t.Errorf("%.1500q, %q, %d: %v, by the second reading %v", text, in, fuel, o, by)
 	}
+	runsAsMeant(t, text, in, o)
 	return o
 }
 
