@@ -68,11 +68,20 @@ func TestValidSteps(t *testing.T) {
 		stepsAre(t, true, "load "+kind+" 0 3", "load "+kind+" 3 0", "store "+kind+" 0 3", "store "+kind+" 3 0")
 		stepsAre(t, false, "narrow "+kind+" 4 0", "narrow "+kind+" 0 4", "narrow "+kind+" -1 0", "narrow "+kind+" 0 -1", "load "+kind+" 4 0", "load "+kind+" 0 4", "load "+kind+" -1 0", "load "+kind+" 0 -1", "store "+kind+" 4 0", "store "+kind+" 0 4", "store "+kind+" -1 0", "store "+kind+" 0 -1")
 	}
+	// Operations and kinds by number, at their bounds and one beyond.
+	for op, most := range map[int]int{impl.IrAlu: 18, impl.IrNarrow: 4, impl.IrLoad: 5, impl.IrStore: 5} {
+		for _, n := range []int{-1 << 63, -1, 0, 1, 2, most - 1, most, most + 1, 19, 1<<63 - 1} {
+			changed(t, n >= 1 && n <= most, fmt.Sprintf("Op %d with %d", op, n), func(ir *impl.Ir) { ir.Funs[1].Code[0] = impl.IrIns{Op: op, N: n} })
+		}
+	}
 	for _, test := range []string{"eq", "ne", "lt", "ge", "ltu", "geu"} {
 		stepsAre(t, true, "if "+test+" 0 3 5", "if "+test+" 3 0 5", "label 0; if "+test+" 1 1 0")
 		stepsAre(t, false, "if "+test+" 4 0 5", "if "+test+" 0 4 5", "if "+test+" -1 0 5", "if "+test+" 0 -1 5", "if "+test+" 0 0 4", "if "+test+" 0 0 -1", "label 0; if "+test+" 0 0 5")
 	}
 	stepsAre(t, false, "if gt 0 0 5", "if le 0 0 5", "if equ 0 0 5", "if EQ 0 0 5", "if beq 0 0 5", "if geuu 0 0 5", "if u 0 0 5")
+	changed(t, false, "no test", func(ir *impl.Ir) {
+		ir.Funs[1].Code = append([]impl.IrIns{{Op: impl.IrIf}}, stepsFrom("label 0; ret -1")...)
+	})
 	// A label may stand ahead of its jumps and behind them, and nobody need jump to it.
 	stepsAre(t, true, "label 7; jump 7", "jump 7; label 7", "if eq 0 0 7; jump 9; label 7; label 9", "label 3; label 2; label 1; label 0")
 	// The labels of another function are not there.

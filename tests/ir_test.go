@@ -296,6 +296,13 @@ func ownMemory(t *testing.T, name string, ir, other impl.Ir) {
 	if touch(ir.Data, other.Data) || touch(ir.Funs, other.Funs) {
 		t.Errorf("%.300s: two answers share memory", name)
 	}
+	for i := range ir.Data {
+		for k := range other.Data {
+			if touch(ir.Data[i].Refs, other.Data[k].Refs) || i != k && touch(ir.Data[i].Refs, ir.Data[k].Refs) {
+				t.Errorf("%.300s: two lists of Refs share memory", name)
+			}
+		}
+	}
 	for i := range ir.Funs {
 		if len(ir.Funs[i].Code) > 0 && len(other.Funs[i].Code) > 0 && &ir.Funs[i].Code[0] == &other.Funs[i].Code[0] {
 			t.Errorf("%.300s: two answers share steps", name)

@@ -35,6 +35,7 @@ func TestFunctionsOfLower(t *testing.T) {
 }
 
 func TestRegistersOfLower(t *testing.T) {
+	t.Parallel()
 	// !1 takes five registers, 1 one, and the end of a function with a result one.
 	for _, c := range []struct {
 		text string
@@ -67,6 +68,7 @@ func TestRegistersOfLower(t *testing.T) {
 }
 
 func TestStepsOfLower(t *testing.T) {
+	t.Parallel()
 	// Loops within each other take many steps for their registers.
 	loops := func(count int, behind string) string {
 		text := "void f(void){"
@@ -152,6 +154,7 @@ func TestSlotsOfLower(t *testing.T) {
 
 // Sources as tall and as great as they can be.
 func TestTallSourcesAreLowered(t *testing.T) {
+	t.Parallel()
 	for _, c := range []struct{ begin, one, end, close, behind string }{
 		{"int main(void){return ", "- ", "1", "", ";}"}, {"int main(void){return ", "(char)", "1", "", ";}"}, {"int main(void){return ", "!", "1", "", ";}"}, {"int main(void){return 1", "+1", "", "", ";}"}, {"int main(void){return ", "1?2:", "3", "", ";}"}, {"int main(void){int i;i=", "i=", "3", "", ";}"}, {"int main(void){return 1", ",1", "", "", ";}"}, {"int main(void){return 1", "&&1", "", "", ";}"}, {"int main(void){return ", "1||(", "1", ")", ";}"},
 		{"int main(void){", "{", "", "}", "}"}, {"int main(void){", "if(1)", ";", "", "}"}, {"int main(void){", "if(1);else ", ";", "", "}"}, {"int main(void){", "while(1)", "break;", "", "}"}, {"int main(void){", "for(int i=1;i;i++)", "continue;", "", "}"}, {"int main(void){", "switch(1)", ";", "", "}"}, {"int main(void){", "do ", "continue;", "while(1);", "}"}, {"int main(void){", "switch(1)default:", "break;", "", "}"}, {"int main(void){", "switch(1)case 1:", ";", "", "}"}, {"int f(int x){return ", "f(", "1", ")", ";}int main(void){return 0;}"}, {"struct S{struct S*n;};int main(void){struct S*s;return s", "->n", "==0", "", ";}"}, {"int main(void){int a[1];return a[", "a[", "0", "]", "];}"},

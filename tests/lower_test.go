@@ -157,6 +157,7 @@ func TestLowerValues(t *testing.T) {
 }
 
 func TestLowerArithmetic(t *testing.T) {
+	t.Parallel()
 	for _, c := range [][3]string{
 		{"+", "add", "add"}, {"-", "sub", "sub"}, {"*", "mul", "mul"}, {"/", "div", "divu"}, {"%", "rem", "remu"}, {"&", "and", "and"}, {"|", "or", "or"}, {"^", "xor", "xor"}, {"<<", "sll", "sll"}, {">>", "sra", "srl"},
 	} {
@@ -172,6 +173,15 @@ func TestLowerArithmetic(t *testing.T) {
 		exprLowers(t, "gi"+c[0]+"=b", "addr 5 gi; move 6 1; load w 7 5; "+c[1]+" 8 7 6; store w 5 8")
 		exprLowers(t, "gb"+c[0]+"=b", "addr 5 gb; move 6 1; load u8 7 5; "+c[1]+" 8 7 6; narrow u8 9 8; store u8 5 9")
 		exprLowers(t, "*p"+c[0]+"=a", "move 5 3; move 6 0; load w 7 5; "+c[1]+" 8 7 6; store w 5 8")
+	}
+	// Each kind, kept in a register.
+	for of, narrow := range map[string]string{"char": "; narrow i8 5 4", "unsigned char": "; narrow u8 5 4", "short": "; narrow i16 5 4", "unsigned short": "; narrow u16 5 4", "int": "", "unsigned": ""} {
+		last := map[bool]int{true: 4, false: 5}[narrow == ""]
+		for op, alu := range map[string]string{"+": "add", "-": "sub"} {
+			for text, gives := range map[string]int{"x" + op + op: 3, op + op + "x": last} {
+				fLowers(t, "int f("+of+" x){int y;y="+text+";return y;}", fmt.Sprintf("1 %d []: num 2 1; move 3 0; %s 4 3 2%s; move 0 %d; move 1 %d; move %d 1; ret %d; num %d 0; ret %d", last+3, alu, narrow, last, gives, last+1, last+1, last+2, last+2))
+			}
+		}
 	}
 	// The register of an update's value: the old one or the new one, narrowed.
 	for _, c := range [][2]string{

@@ -112,6 +112,7 @@ func TestRunIrBounds(t *testing.T) {
 
 // Each Op on registers, at the greatest and least words.
 func TestRunIrOps(t *testing.T) {
+	t.Parallel()
 	gives(t, 0, "ret -1")
 	gives(t, 0, "ret 3")
 	for _, n := range edgeWords {
@@ -210,6 +211,7 @@ func TestRunIrAddresses(t *testing.T) {
 
 // Loads and stores of each kind at and around the edges of the data and of the stack.
 func TestRunIrMemory(t *testing.T) {
+	t.Parallel()
 	const dataEnd, stackBegin = 1048576 + 8, 2097152 - 65536
 	for kind := 1; kind <= 5; kind++ {
 		size, name := sizes[kind], kindTexts[kind]
