@@ -14,7 +14,7 @@ const (
 )
 
 // check asks Check, with room behind the bytes, and sees that these are as they were, that the core stands just beside
-// 0, and that the second reading says the same.
+// 0, and that the second reading says the same. The functions of a right source are given registers.
 func check(t *testing.T, text string) (string, int, int, int) {
 	t.Helper()
 	given := roomy([]byte(text))
@@ -29,6 +29,10 @@ func check(t *testing.T, text string) (string, int, int, int) {
 	if string(core) != by || code != codeBy || line != lineBy || col != colBy {
 		shown := text[max(0, len(text)-600):]
 		t.Errorf("..%q: %d, %d, %d,\n%s, by the second reading %d, %d, %d,\n%s", shown, code, line, col, core, codeBy, lineBy, colBy, by)
+	}
+	if code == 0 {
+		ir, _, _, _ := impl.Lower([]byte(text))
+		allocOnce(t, ir)
 	}
 	return string(core), code, line, col
 }

@@ -34,14 +34,16 @@ var (
 	irNameBy   = regexp.MustCompile(`^[A-Za-z_][A-Za-z0-9_]{0,39}$`)
 	textNameBy = regexp.MustCompile(`^\$(0|[1-9][0-9]{0,3})$`)
 	irGivenBy  = map[string]int{"putchar": 1, "getchar": 0, "exit": 1}
-	irRowsBy   = func() map[int][]string {
-		rows := map[int][]string{}
-		for i, row := range strings.Split(stepRows, "\n") {
-			rows[i+1] = strings.Fields(row)[1:]
-		}
-		return rows
-	}()
+	irRowsBy   = rowsOf(stepRows)
 )
+
+func rowsOf(text string) map[int][]string {
+	rows := map[int][]string{}
+	for i, row := range strings.Split(text, "\n") {
+		rows[i+1] = strings.Fields(row)[1:]
+	}
+	return rows
+}
 
 // irOkBy gives what is wrong with a code first, or nothing.
 func irOkBy(ir impl.Ir) string {
@@ -84,7 +86,7 @@ func irOkBy(ir impl.Ir) string {
 		}
 	}
 	for _, f := range ir.Funs {
-		if wrong := irFunBy(f, ir, names); wrong != "" {
+		if wrong := irFunBy(irRowsBy, f, ir, names); wrong != "" {
 			return f.Name + ": " + wrong
 		}
 	}
@@ -114,7 +116,7 @@ func irRefsBy(d impl.IrData, names map[string]int) string {
 	return ""
 }
 
-func irFunBy(f impl.IrFun, ir impl.Ir, names map[string]int) string {
+func irFunBy(rows map[int][]string, f impl.IrFun, ir impl.Ir, names map[string]int) string {
 	switch {
 	case f.Params < 0 || f.Params > 8:
 		return "Params"
@@ -139,7 +141,7 @@ func irFunBy(f impl.IrFun, ir impl.Ir, names map[string]int) string {
 		}
 	}
 	for i, in := range f.Code {
-		if wrong := stepOkBy(in, f, ir, names, labels); wrong != "" {
+		if wrong := stepOkBy(rows[in.Op], in, f, ir, names, labels); wrong != "" {
 			return fmt.Sprint("step ", i, ": ", wrong)
 		}
 	}
@@ -147,9 +149,8 @@ func irFunBy(f impl.IrFun, ir impl.Ir, names map[string]int) string {
 }
 
 // stepOkBy goes through the fields that a step uses, and takes them away; what is left must be nothing.
-func stepOkBy(in impl.IrIns, f impl.IrFun, ir impl.Ir, names map[string]int, labels map[int]int) string {
-	row, ok := irRowsBy[in.Op]
-	if !ok {
+func stepOkBy(row []string, in impl.IrIns, f impl.IrFun, ir impl.Ir, names map[string]int, labels map[int]int) string {
+	if len(row) == 0 {
 		return "no Op"
 	}
 	left := in

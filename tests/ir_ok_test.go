@@ -51,39 +51,57 @@ func changed(t *testing.T, want bool, name string, change func(ir *impl.Ir)) {
 	isValid(t, want, name, ir)
 }
 
+// stepTexts gives steps of a function with four registers, slots of 5 and 8 bytes and a label 5: right ones, wrong ones, and
+// ones that are wrong for their names alone, or for the number of their Args, beside mainOf's data d and function f.
+func stepTexts() (right, wrong, misnamed []string) {
+	right = []string{"num 0 0", "num 3 4294967295", "num 0 1", "move 0 0", "move 3 3", "move 0 3", "ret 0", "ret 3", "ret -1", "label 0", "label 9223372036854775807", "label 4294967296", "jump 5", "copy 0 0 1", "copy 3 3 60000", "zero 0 1", "zero 3 60000", "slot 0 0", "slot 3 1", "addr 0 d", "addr 3 d 60000", "addr 0 f", "addr 0 main 1", "addr 2 f 60000"}
+	wrong = []string{"num 4 0", "num -1 0", "num -2 0", "num 0 -1", "num 0 4294967296", "num 0 9223372036854775807", "num 0 -9223372036854775808", "move 4 0", "move -1 0", "move 0 4", "move 0 -1", "ret 4", "ret -2", "ret 9223372036854775807", "ret -9223372036854775808", "label -1", "label -9223372036854775808", "label 1; label 1", "label 0; label 2; label 0", "jump 4", "jump -1", "jump 0", "label -1; jump -1", "copy 4 0 1", "copy -1 0 1", "copy 0 4 1", "copy 0 -1 1", "copy 0 0 0", "copy 0 0 -1", "copy 0 0 60001", "zero 4 1", "zero -1 1", "zero 0 0", "zero 0 -1", "zero 0 60001", "slot 4 0", "slot -1 0", "slot 0 2", "slot 0 -1", "addr 4 d", "addr -1 d", "addr 0 d -1", "addr 0 d 60001", "addr 0 f 60001"}
+	misnamed = []string{"addr 0 x", "addr 0 putchar", "addr 0 getchar", "addr 0 exit", "addr 0 $0", "addr 0 D"}
+	for _, op := range strings.Fields("add sub sll slt sltu xor srl sra or and mul mulh mulhsu mulhu div divu rem remu") {
+		right = append(right, op+" 0 0 0", op+" 3 3 3", op+" 0 1 2")
+		wrong = append(wrong, op+" 4 0 0", op+" 0 4 0", op+" 0 0 4", op+" -1 0 0", op+" 0 -1 0", op+" 0 0 -1")
+	}
+	for _, kind := range []string{"i8", "u8", "i16", "u16", "w"} {
+		if kind == "w" {
+			wrong = append(wrong, "narrow w 0 3", "narrow w 3 0")
+		} else {
+			right = append(right, "narrow "+kind+" 0 3", "narrow "+kind+" 3 0")
+		}
+		right = append(right, "load "+kind+" 0 3", "load "+kind+" 3 0", "store "+kind+" 0 3", "store "+kind+" 3 0")
+		wrong = append(wrong, "narrow "+kind+" 4 0", "narrow "+kind+" 0 4", "narrow "+kind+" -1 0", "narrow "+kind+" 0 -1", "load "+kind+" 4 0", "load "+kind+" 0 4", "load "+kind+" -1 0", "load "+kind+" 0 -1", "store "+kind+" 4 0", "store "+kind+" 0 4", "store "+kind+" -1 0", "store "+kind+" 0 -1")
+	}
+	for _, test := range []string{"eq", "ne", "lt", "ge", "ltu", "geu"} {
+		right = append(right, "if "+test+" 0 3 5", "if "+test+" 3 0 5", "label 0; if "+test+" 1 1 0")
+		wrong = append(wrong, "if "+test+" 4 0 5", "if "+test+" 0 4 5", "if "+test+" -1 0 5", "if "+test+" 0 -1 5", "if "+test+" 0 0 4", "if "+test+" 0 0 -1", "label 0; if "+test+" 0 0 5")
+	}
+	wrong = append(wrong, "if gt 0 0 5", "if le 0 0 5", "if equ 0 0 5", "if EQ 0 0 5", "if beq 0 0 5", "if geuu 0 0 5", "if u 0 0 5")
+	// A label may stand ahead of its jumps and behind them, and nobody need jump to it.
+	right = append(right, "label 7; jump 7", "jump 7; label 7", "if eq 0 0 7; jump 9; label 7; label 9", "label 3; label 2; label 1; label 0")
+	right = append(right, "call 0 f 0", "call -1 f 3", "call 3 f 3", "call 0 main", "call -1 main", "call 0 putchar 0", "call -1 putchar 3", "call 0 exit 0", "call -1 exit 3", "call 0 getchar", "call -1 getchar", "callr 0 0", "callr -1 3", "callr 3 0 0 1 2 3", "callr 0 0 0 0 0 0 0 0 0 0", "callr 0 0 3 2 1 0")
+	wrong = append(wrong, "call 4 f 0", "call -2 f 0", "call 0 f 4", "call 0 f -1", "call 0 putchar 4", "call 0 exit -1", "call 4 getchar", "call -2 getchar", "callr 4 0", "callr -2 0", "callr 0 4", "callr 0 -1", "callr 0 0 4", "callr 0 0 -1", "callr 0 0 0 1 -1", "callr 0 0 0 0 0 0 0 0 0 0 0")
+	misnamed = append(misnamed, "call 0 f", "call 0 f 0 1", "call 0 main 0", "call 0 g", "call 0 d", "call 0 d 0", "call 0 putchar", "call 0 putchar 0 1", "call 0 exit", "call 0 exit 1 0", "call 0 getchar 0", "call 0 getchar 0 0")
+	return right, wrong, misnamed
+}
+
 func TestValidSteps(t *testing.T) {
 	for op := 1; op <= 16; op++ {
 		if len(irRowsBy[op]) == 0 {
 			t.Fatalf("no row for %d", op)
 		}
 	}
-	stepsAre(t, true, "num 0 0", "num 3 4294967295", "num 0 1", "move 0 0", "move 3 3", "move 0 3", "ret 0", "ret 3", "ret -1", "label 0", "label 9223372036854775807", "label 4294967296", "jump 5", "copy 0 0 1", "copy 3 3 60000", "zero 0 1", "zero 3 60000", "slot 0 0", "slot 3 1", "addr 0 d", "addr 3 d 60000", "addr 0 f", "addr 0 main 1", "addr 2 f 60000")
-	stepsAre(t, false, "num 4 0", "num -1 0", "num -2 0", "num 0 -1", "num 0 4294967296", "num 0 9223372036854775807", "num 0 -9223372036854775808", "move 4 0", "move -1 0", "move 0 4", "move 0 -1", "ret 4", "ret -2", "ret 9223372036854775807", "ret -9223372036854775808", "label -1", "label -9223372036854775808", "label 1; label 1", "label 0; label 2; label 0", "jump 4", "jump -1", "jump 0", "label -1; jump -1", "copy 4 0 1", "copy -1 0 1", "copy 0 4 1", "copy 0 -1 1", "copy 0 0 0", "copy 0 0 -1", "copy 0 0 60001", "zero 4 1", "zero -1 1", "zero 0 0", "zero 0 -1", "zero 0 60001", "slot 4 0", "slot -1 0", "slot 0 2", "slot 0 -1", "addr 4 d", "addr -1 d", "addr 0 x", "addr 0 putchar", "addr 0 getchar", "addr 0 exit", "addr 0 d -1", "addr 0 d 60001", "addr 0 f 60001", "addr 0 $0", "addr 0 D")
-	for _, op := range strings.Fields("add sub sll slt sltu xor srl sra or and mul mulh mulhsu mulhu div divu rem remu") {
-		stepsAre(t, true, op+" 0 0 0", op+" 3 3 3", op+" 0 1 2")
-		stepsAre(t, false, op+" 4 0 0", op+" 0 4 0", op+" 0 0 4", op+" -1 0 0", op+" 0 -1 0", op+" 0 0 -1")
-	}
-	for _, kind := range []string{"i8", "u8", "i16", "u16", "w"} {
-		stepsAre(t, kind != "w", "narrow "+kind+" 0 3", "narrow "+kind+" 3 0")
-		stepsAre(t, true, "load "+kind+" 0 3", "load "+kind+" 3 0", "store "+kind+" 0 3", "store "+kind+" 3 0")
-		stepsAre(t, false, "narrow "+kind+" 4 0", "narrow "+kind+" 0 4", "narrow "+kind+" -1 0", "narrow "+kind+" 0 -1", "load "+kind+" 4 0", "load "+kind+" 0 4", "load "+kind+" -1 0", "load "+kind+" 0 -1", "store "+kind+" 4 0", "store "+kind+" 0 4", "store "+kind+" -1 0", "store "+kind+" 0 -1")
-	}
+	right, wrong, misnamed := stepTexts()
+	stepsAre(t, true, right...)
+	stepsAre(t, false, wrong...)
+	stepsAre(t, false, misnamed...)
 	// Operations and kinds by number, at their bounds and one beyond.
 	for op, most := range map[int]int{impl.IrAlu: 18, impl.IrNarrow: 4, impl.IrLoad: 5, impl.IrStore: 5} {
 		for _, n := range []int{-1 << 63, -1, 0, 1, 2, most - 1, most, most + 1, 19, 1<<63 - 1} {
 			changed(t, n >= 1 && n <= most, fmt.Sprintf("Op %d with %d", op, n), func(ir *impl.Ir) { ir.Funs[1].Code[0] = impl.IrIns{Op: op, N: n} })
 		}
 	}
-	for _, test := range []string{"eq", "ne", "lt", "ge", "ltu", "geu"} {
-		stepsAre(t, true, "if "+test+" 0 3 5", "if "+test+" 3 0 5", "label 0; if "+test+" 1 1 0")
-		stepsAre(t, false, "if "+test+" 4 0 5", "if "+test+" 0 4 5", "if "+test+" -1 0 5", "if "+test+" 0 -1 5", "if "+test+" 0 0 4", "if "+test+" 0 0 -1", "label 0; if "+test+" 0 0 5")
-	}
-	stepsAre(t, false, "if gt 0 0 5", "if le 0 0 5", "if equ 0 0 5", "if EQ 0 0 5", "if beq 0 0 5", "if geuu 0 0 5", "if u 0 0 5")
 	changed(t, false, "no test", func(ir *impl.Ir) {
 		ir.Funs[1].Code = append([]impl.IrIns{{Op: impl.IrIf}}, stepsFrom("label 0; ret -1")...)
 	})
-	// A label may stand ahead of its jumps and behind them, and nobody need jump to it.
-	stepsAre(t, true, "label 7; jump 7", "jump 7; label 7", "if eq 0 0 7; jump 9; label 7; label 9", "label 3; label 2; label 1; label 0")
 	// The labels of another function are not there.
 	changed(t, false, "a jump to another's label", func(ir *impl.Ir) {
 		ir.Funs[0].Code, ir.Funs[1].Code = stepsFrom("label 1; ret -1"), stepsFrom("jump 1; ret -1")
@@ -94,8 +112,6 @@ func TestValidSteps(t *testing.T) {
 }
 
 func TestValidCalls(t *testing.T) {
-	stepsAre(t, true, "call 0 f 0", "call -1 f 3", "call 3 f 3", "call 0 main", "call -1 main", "call 0 putchar 0", "call -1 putchar 3", "call 0 exit 0", "call -1 exit 3", "call 0 getchar", "call -1 getchar", "callr 0 0", "callr -1 3", "callr 3 0 0 1 2 3", "callr 0 0 0 0 0 0 0 0 0 0", "callr 0 0 3 2 1 0")
-	stepsAre(t, false, "call 4 f 0", "call -2 f 0", "call 0 f 4", "call 0 f -1", "call 0 f", "call 0 f 0 1", "call 0 main 0", "call 0 g", "call 0 d", "call 0 d 0", "call 0 putchar", "call 0 putchar 0 1", "call 0 exit", "call 0 exit 1 0", "call 0 getchar 0", "call 0 getchar 0 0", "call 0 putchar 4", "call 0 exit -1", "call 4 getchar", "call -2 getchar", "callr 4 0", "callr -2 0", "callr 0 4", "callr 0 -1", "callr 0 0 4", "callr 0 0 -1", "callr 0 0 0 1 -1", "callr 0 0 0 0 0 0 0 0 0 0 0")
 	// A function with as many params as it can have, called with one too few, all, and one too many.
 	for args := range 11 {
 		for params := range 9 {
@@ -113,8 +129,8 @@ func TestValidCalls(t *testing.T) {
 	changed(t, true, "itself", func(ir *impl.Ir) { ir.Funs[0].Code = stepsFrom("call 0 f 0; ret -1") })
 }
 
-// Each Op with a field that it has no use for.
-func TestFieldsWithoutUse(t *testing.T) {
+// strayFields makes steps with a field that they have no use for, and hands out main's steps without it and with it.
+func strayFields(do func(name string, without, with []impl.IrIns)) {
 	for _, text := range []string{"num 1 1", "move 1 1", "add 1 1 1", "narrow i8 1 1", "load w 1 1", "store w 1 1", "addr 1 d 1", "slot 1 1", "call 1 f 1", "callr 1 1 1", "label 5", "jump 5", "if eq 1 1 5", "ret 1", "copy 1 1 1", "zero 1 1"} {
 		base := aStep(text)
 		row := strings.Join(irRowsBy[base.Op], " ") + " "
@@ -134,17 +150,25 @@ func TestFieldsWithoutUse(t *testing.T) {
 			if uses {
 				continue
 			}
-			ir := mainOf("label 5; ret -1")
+			behind := "label 5; ret -1"
 			if base.Op == impl.IrLabel {
-				ir = mainOf("ret -1")
+				behind = "ret -1"
 			}
-			in := base
-			ir.Funs[1].Code = append([]impl.IrIns{in}, ir.Funs[1].Code...)
-			isValid(t, true, text, ir)
-			change(&ir.Funs[1].Code[0])
-			isValid(t, false, text+" with "+field, ir)
+			without, with := stepsFrom(text+";"+behind), stepsFrom(text+";"+behind)
+			change(&with[0])
+			do(text+" with "+field, without, with)
 		}
 	}
+}
+
+func TestFieldsWithoutUse(t *testing.T) {
+	strayFields(func(name string, without, with []impl.IrIns) {
+		ir := mainOf("")
+		ir.Funs[1].Code = without
+		isValid(t, true, name, ir)
+		ir.Funs[1].Code = with
+		isValid(t, false, name, ir)
+	})
 	// A list with nothing in it is none.
 	changed(t, true, "empty lists", func(ir *impl.Ir) {
 		ir.Funs[1].Code[0].Args, ir.Funs[0].Slots, ir.Data[0].Refs = []int{}, []int{}, []impl.IrRef{}

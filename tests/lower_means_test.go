@@ -31,6 +31,7 @@ func runsAsMeant(t *testing.T, text, in string, meant impl.Outcome) (impl.Outcom
 		}
 		return impl.Outcome{}, false
 	}
+	allocOnce(t, ir)
 	o := impl.RunIr(ir, []byte(in), impl.MaxFuel)
 	room := 0
 	for _, f := range ir.Funs {

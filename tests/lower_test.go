@@ -40,6 +40,7 @@ func lower(t *testing.T, text string) (impl.Ir, int, int, int) {
 	if code == 0 && !irOk(t, ir) {
 		t.Errorf("%.1000q: the code is not valid", text)
 	}
+	allocOnce(t, ir)
 	return ir, code, line, col
 }
 
