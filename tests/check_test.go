@@ -33,6 +33,7 @@ func check(t *testing.T, text string) (string, int, int, int) {
 	if code == 0 {
 		ir, _, _, _ := impl.Lower([]byte(text))
 		allocOnce(t, ir)
+		emitOnce(t, ir)
 	}
 	return string(core), code, line, col
 }

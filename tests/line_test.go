@@ -202,15 +202,17 @@ func TestKindsThatAreNone(t *testing.T) {
 	}
 }
 
+// regWords and opWords are the names one by one, since very many lines are written.
+var regWords, opWords = strings.Fields(regNames), strings.Fields(opNames)
+
 // textOf writes a line by the words of the document's tables, one form after the other.
 func textOf(l impl.Line) string {
-	names := strings.Fields(regNames)
-	r := func(i int) string { return names[i] }
+	r := func(i int) string { return regWords[i] }
 	switch l.Kind {
 	case impl.LineLabel:
 		return l.Sym + ":\n"
 	case impl.LineInst, impl.LineJump:
-		return "  " + instText(l, names) + "\n"
+		return "  " + instText(l) + "\n"
 	case impl.LineLi:
 		return "  li " + r(l.In.Rd) + ", " + decimal(l.N) + "\n"
 	case impl.LineLa:
@@ -234,10 +236,10 @@ func textOf(l impl.Line) string {
 	return map[int]string{impl.LineRet: "  ret\n", impl.LineText: "  .text\n", impl.LineData: "  .data\n"}[l.Kind]
 }
 
-func instText(l impl.Line, names []string) string {
+func instText(l impl.Line) string {
 	in := l.In
-	name := strings.Fields(opNames)[in.Op-1]
-	rd, rs1, rs2 := names[in.Rd], names[in.Rs1], names[in.Rs2]
+	name := opWords[in.Op-1]
+	rd, rs1, rs2 := regWords[in.Rd], regWords[in.Rs1], regWords[in.Rs2]
 	memory := decimal(in.Imm) + "(" + rs1 + ")"
 	switch formOf(in.Op) {
 	case 'R':

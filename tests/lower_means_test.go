@@ -32,6 +32,7 @@ func runsAsMeant(t *testing.T, text, in string, meant impl.Outcome) (impl.Outcom
 		return impl.Outcome{}, false
 	}
 	allocOnce(t, ir)
+	emitOnce(t, ir)
 	o := impl.RunIr(ir, []byte(in), impl.MaxFuel)
 	room := 0
 	for _, f := range ir.Funs {
@@ -49,6 +50,7 @@ func runsAsMeant(t *testing.T, text, in string, meant impl.Outcome) (impl.Outcom
 	case o.End != impl.EndExit || o.Value != meant.Value || !bytes.Equal(o.Out, meant.Out) || o.Depth != meant.Depth:
 		t.Errorf("%.2000q, %q: %v, but it means %v", text, in, o, meant)
 	}
+	doesAsMeant(t, ir, text, in, meant)
 	return o, true
 }
 

@@ -41,6 +41,7 @@ func lower(t *testing.T, text string) (impl.Ir, int, int, int) {
 		t.Errorf("%.1000q: the code is not valid", text)
 	}
 	allocOnce(t, ir)
+	emitOnce(t, ir)
 	return ir, code, line, col
 }
 
