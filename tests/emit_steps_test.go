@@ -13,10 +13,14 @@ import (
 // spills of 12 bytes, or of 28.
 func amid(steps string) impl.Ir {
 	all := setting(0, 19) + "label 1000;" + steps + "; label 1001;" + using(upTo(3, 19)...) + using(2, 1, 0) + "ret -1"
-	return impl.Ir{
+	ir := impl.Ir{
 		Data: []impl.IrData{{Name: "d", Bytes: []byte{7}}},
 		Funs: []impl.IrFun{{Name: "main", Regs: 19, Slots: []int{5, 2020, 8}, Code: stepsFrom(all)}, {Name: "f", Code: stepsFrom("ret -1")}, {Name: "g", Params: 8, Regs: 8, Code: stepsFrom("ret -1")}},
 	}
+	for params := 1; params < 8; params++ {
+		ir.Funs = append(ir.Funs, impl.IrFun{Name: fmt.Sprint("g", params), Params: params, Regs: params, Code: stepsFrom("ret -1")})
+	}
+	return ir
 }
 
 // middle gives what stands between the labels 1000 and 1001 of main. The names of steps in it count from 20 on.
@@ -143,7 +147,7 @@ func TestEmitSlot(t *testing.T) {
 	writes(t, "slot 3 1", "addi t6, sp, 20")
 	writes(t, "slot 3 2", "addi t6, sp, 2040")
 	writes(t, "slot 0 2", "addi t0, sp, 2040; sw t0, 0(sp)")
-	// With the spills of a call the third slot is farther than an instruction can say.
+	// With the spills beside a call the third slot is farther than an instruction can say.
 	writes(t, "slot 3 2; call -1 f", "li s4, 2056; add s4, s4, sp; call C.f")
 	writes(t, "slot 0 2; call -1 f", "li t0, 2056; add t0, t0, sp; sw t0, 0(sp); call C.f")
 	writes(t, "slot 3 1; call -1 f", "addi s4, sp, 36; call C.f")
@@ -179,6 +183,15 @@ func TestEmitCall(t *testing.T) {
 	writes(t, "call 4 putchar 1", "lw a0, 4(sp); call C.putchar; mv s5, a0")
 	writes(t, "call 3 putchar 3", "mv a0, s4; call C.putchar; mv s4, a0")
 	writes(t, "call 2 putchar 2", "lw a0, 8(sp); call C.putchar; mv t0, a0; sw t0, 8(sp)")
+	for n := 1; n < 8; n++ {
+		args := []string{"4", "1", "5", "2", "4", "1", "5"}[:n]
+		texts := []string{"mv a0, s5", "lw a1, 4(sp)", "mv a2, s6", "lw a3, 8(sp)", "mv a4, s5", "lw a5, 4(sp)", "mv a6, s6"}[:n]
+		call := fmt.Sprint("g", n, " ", strings.Join(args, " "))
+		line := fmt.Sprint(strings.Join(texts, "; "), "; call C.g", n)
+		writes(t, "call -1 "+call, line)
+		writes(t, "call 3 "+call, line+"; mv s4, a0")
+		writes(t, "call 0 "+call, line+"; mv t0, a0; sw t0, 0(sp)")
+	}
 	writes(t, "call -1 g 3 4 5 3 3 5 4 3", "mv a0, s4; mv a1, s5; mv a2, s6; mv a3, s4; mv a4, s4; mv a5, s6; mv a6, s5; mv a7, s4; call C.g")
 	writes(t, "call 4 g 0 3 1 4 2 5 0 0", "lw a0, 0(sp); mv a1, s4; lw a2, 4(sp); mv a3, s5; lw a4, 8(sp); mv a5, s6; lw a6, 0(sp); lw a7, 0(sp); call C.g; mv s5, a0")
 	writes(t, "call 1 g 0 1 2 0 1 2 0 1", "lw a0, 0(sp); lw a1, 4(sp); lw a2, 8(sp); lw a3, 0(sp); lw a4, 4(sp); lw a5, 8(sp); lw a6, 0(sp); lw a7, 4(sp); call C.g; mv t0, a0; sw t0, 4(sp)")
