@@ -14,7 +14,8 @@ const (
 )
 
 // check asks Check, with room behind the bytes, and sees that these are as they were, that the core stands just beside
-// 0, and that the second reading says the same. The functions of a right source are given registers.
+// 0, and that the second reading says the same. The functions of a right source are given registers and written, and each
+// source is formatted.
 func check(t *testing.T, text string) (string, int, int, int) {
 	t.Helper()
 	given := roomy([]byte(text))
@@ -35,6 +36,7 @@ func check(t *testing.T, text string) (string, int, int, int) {
 		allocOnce(t, ir)
 		emitOnce(t, ir)
 	}
+	formOnce(t, text)
 	return string(core), code, line, col
 }
 

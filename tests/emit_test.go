@@ -157,25 +157,6 @@ func emitOnce(t *testing.T, ir impl.Ir) {
 	}
 }
 
-// doesAsMeant sees that the lines of a code do on the machine what its source means, which ends with EndExit, unless they are
-// too great for an image, or there is not enough stack or fuel for it.
-func doesAsMeant(t *testing.T, ir impl.Ir, text, in string, meant impl.Outcome) {
-	t.Helper()
-	lines, ok := impl.Emit(ir, impl.MaxStack)
-	image, code, _ := impl.Assemble(lines, impl.MaxStack)
-	if !ok || code == 5 {
-		return
-	}
-	m, ok := impl.StartMachine(image, []byte(in))
-	m = impl.RunMachine(m, impl.MaxFuel)
-	switch {
-	case m.End == impl.EndStack && meant.Depth*slices.Max(impl.Frames(ir)) > impl.MaxStack:
-	case m.End == impl.EndNone && m.Steps == impl.MaxFuel:
-	case !ok || m.End != impl.EndExit || m.Value != meant.Value || !slices.Equal(m.Out, meant.Out):
-		t.Errorf("%.2000q, %q: %d with %d and %.300q, but it means %v", text, in, m.End, m.Value, m.Out, meant)
-	}
-}
-
 // funLines gives the texts of the function f of a code, those of the lines from its label up to the next function's, or to
 // the data.
 func funLines(t *testing.T, ir impl.Ir, f, stack int) string {

@@ -40,6 +40,7 @@ func runsAsMeant(t *testing.T, text, in string, meant impl.Outcome) (impl.Outcom
 	}
 	// No value and no step is lowered to more than ten steps, but a switch to two for each case.
 	cost := 10 + 2*strings.Count(text, "case")
+	doesAsMeantOnce(t, ir, text, in, meant)
 	switch {
 	case meant.End != impl.EndExit:
 		return o, false
@@ -50,7 +51,6 @@ func runsAsMeant(t *testing.T, text, in string, meant impl.Outcome) (impl.Outcom
 	case o.End != impl.EndExit || o.Value != meant.Value || !bytes.Equal(o.Out, meant.Out) || o.Depth != meant.Depth:
 		t.Errorf("%.2000q, %q: %v, but it means %v", text, in, o, meant)
 	}
-	doesAsMeant(t, ir, text, in, meant)
 	return o, true
 }
 
